@@ -1,6 +1,7 @@
 """Those rules of the language that a look at each file of the package can tell."""
 
 import ast
+import builtins
 import io
 import pathlib
 import re
@@ -32,7 +33,48 @@ NOT_IN_CODE = re.compile(
 
 NODES_NOT_USED = (ast.AsyncFunctionDef, ast.Await, ast.AsyncFor, ast.AsyncWith, ast.GeneratorExp, ast.Div)
 
+# The builtins that may be used, without the errors.
+BUILTINS = set("""len range enumerate zip min max sum abs sorted reversed int str bool bytes list tuple dict set frozenset isinstance
+    ord repr any all divmod pow iter next map getattr hasattr setattr super property staticmethod classmethod""".split())
+
+ERRORS = set("""Exception ValueError TypeError KeyError IndexError LookupError ZeroDivisionError ArithmeticError
+    OverflowError RuntimeError NotImplementedError AttributeError StopIteration NotImplemented""".split())
+
+# The methods of builtin values that may be called.
+METHODS = set("""append clear copy count endswith extend find get index insert isalnum isalpha isdigit islower isspace isupper
+    items join keys ljust lower lstrip partition pop remove replace reverse rfind rjust rpartition rsplit rstrip setdefault
+    split splitlines startswith strip update upper values zfill bit_length add discard removeprefix removesuffix""".split())
+
+AT_ONCE = {"zip", "enumerate", "reversed"}
+
+TAKERS = {"list", "tuple", "dict", "sorted", "sum", "any", "all", "min", "max", "enumerate", "zip"}
+
 FILES = sorted(PACKAGE.rglob("*.py"))
+
+
+def is_part_of_class(tree, node):
+    return any(node in part.body for part in ast.walk(tree) if isinstance(part, ast.ClassDef))
+
+
+def bound_names(node):
+    """The names of the parameters and variables of a function."""
+    found = {part.arg for part in ast.walk(node) if isinstance(part, ast.arg)}
+    return found | {part.id for part in ast.walk(node) if isinstance(part, ast.Name) and isinstance(part.ctx, ast.Store)}
+
+
+def decorators(node):
+    return [ast.unparse(part) for part in node.decorator_list]
+
+
+def methods():
+    """All methods of the package, as pairs of the name of the class and the tree."""
+    return [(part.name, node) for _, tree in trees() for part in ast.walk(tree) if isinstance(part, ast.ClassDef)
+            for node in part.body if isinstance(node, ast.FunctionDef)]
+
+
+def stored_attributes():
+    return {node.attr for _, tree in trees() for node in ast.walk(tree)
+            if isinstance(node, ast.Attribute) and isinstance(node.ctx, ast.Store)}
 
 
 def trees():
@@ -114,6 +156,99 @@ class Trees(unittest.TestCase):
             for node in ast.walk(tree):
                 if isinstance(node, ast.BinOp) and isinstance(node.op, ast.Pow):
                     self.assertIsInstance(node.right, ast.Constant, name)
+
+    def test_no_augmented_assignments(self):
+        # Classes of the document have signs in place, and then these need much care.
+        for name, tree in trees():
+            for node in ast.walk(tree):
+                self.assertNotIsInstance(node, ast.AugAssign, name)
+
+    def test_what_is_iterated_at_once(self):
+        for name, tree in trees():
+            right = set()
+            for node in ast.walk(tree):
+                if isinstance(node, (ast.For, ast.comprehension)):
+                    right.add(node.iter)
+                if isinstance(node, ast.Call) and isinstance(node.func, ast.Name) and node.func.id in TAKERS and node.args:
+                    right.update(node.args if node.func.id in AT_ONCE else node.args[:1])
+            for node in ast.walk(tree):
+                if isinstance(node, ast.Call) and ast.unparse(node.func) in AT_ONCE:
+                    self.assertIn(node, right, (name, ast.unparse(node)))
+                if isinstance(node, ast.Call) and isinstance(node.func, ast.Attribute) and node.func.attr in ("items", "values"):
+                    self.assertIn(node, right, (name, ast.unparse(node)))
+
+
+class Names(unittest.TestCase):
+    def test_builtins(self):
+        for name, tree in trees():
+            for node in ast.walk(tree):
+                if isinstance(node, ast.Name) and hasattr(builtins, node.id):
+                    self.assertIn(node.id, BUILTINS | ERRORS, name)
+                    self.assertIsInstance(node.ctx, ast.Load)
+                if isinstance(node, ast.FunctionDef) and not is_part_of_class(tree, node):
+                    self.assertFalse(hasattr(builtins, node.name), node.name)
+                if isinstance(node, ast.FunctionDef):
+                    for bound in bound_names(node):
+                        self.assertFalse(hasattr(builtins, bound), (name, node.name, bound))
+
+    def test_names_of_a_file_are_bound_once(self):
+        for name, tree in trees():
+            found = []
+            for node in tree.body:
+                if isinstance(node, ast.ImportFrom):
+                    found.extend(alias.name for alias in node.names)
+                if isinstance(node, (ast.FunctionDef, ast.ClassDef)):
+                    found.append(node.name)
+                if isinstance(node, ast.Assign):
+                    self.assertEqual([type(target) for target in node.targets], [ast.Name])
+                    found.append(node.targets[0].id)
+            self.assertEqual(len(found), len(set(found)), name)
+            for node in ast.walk(tree):
+                if isinstance(node, ast.FunctionDef):
+                    self.assertEqual(bound_names(node) & set(found), set(), (name, node.name))
+
+    def test_attributes_are_assigned_or_methods(self):
+        known = METHODS | stored_attributes() | {node.name for _, node in methods()} | {"__class__", "__name__"}
+        for name, tree in trees():
+            for node in ast.walk(tree):
+                if isinstance(node, ast.Attribute):
+                    self.assertIn(node.attr, known, name)
+                    self.assertIn(type(node.ctx), (ast.Load, ast.Store))
+
+    def test_decorators(self):
+        for made, node in methods():
+            self.assertIn(decorators(node), ([], ["property"], ["staticmethod"], ["classmethod"], [node.name + ".setter"]))
+        for _, tree in trees():
+            for node in ast.walk(tree):
+                if isinstance(node, ast.FunctionDef) and not is_part_of_class(tree, node):
+                    self.assertEqual(node.decorator_list, [])
+
+    def test_names_of_properties_and_static_methods(self):
+        plain = {node.name for _, node in methods() if decorators(node) == []}
+        single = {node.name for _, node in methods() if decorators(node) in (["staticmethod"], ["classmethod"])}
+        asked = {node.name for _, node in methods() if decorators(node) == ["property"]}
+        of_values = {name for kind in (str, int, list, dict, set, bytes) for name in dir(kind)}
+        self.assertEqual([plain & single, plain & asked, single & asked], [set()] * 3)
+        self.assertEqual([(single | asked) & stored_attributes(), (single | asked) & of_values], [set()] * 2)
+
+    def test_names_of_methods_and_attributes(self):
+        plain = {node.name for _, node in methods() if not node.name.startswith("__")}
+        self.assertEqual(plain & stored_attributes(), set())
+
+    def test_methods_with_two_underscores_are_simple(self):
+        for made, node in methods():
+            if node.name in ("__eq__", "__str__", "__repr__", "__len__"):
+                self.assertEqual([type(row) for row in node.body if not isinstance(row, ast.Expr)], [ast.Return], made)
+
+    def test_no_files_import_from_each_other(self):
+        imports = {name: [node.module.split(".")[1] + ".py" for node in tree.body if isinstance(node, ast.ImportFrom)
+                          and node.module.startswith("selfpower.")] for name, tree in trees()}
+        self.assertEqual(imports["__init__.py"], [])
+        while imports:
+            free = [name for name in imports if not set(imports[name]) & set(imports)]
+            self.assertTrue(free, imports)
+            for name in free:
+                del imports[name]
 
 
 if __name__ == "__main__":
