@@ -93,10 +93,9 @@ def read_step(lines, at, depth, known):
 
 def read_setting(line, at, known):
     """The step of a line that sets names."""
-    left, between, right = line.partition(" = ")
+    # In a line without the sign nothing stands behind it, and that is no term.
+    left, _, right = line.partition(" = ")
     names = names_at(left.split(" "), at)
-    if not between:
-        raise InvalidText(at)
     if right.startswith("call "):
         called, space, texts = right.removeprefix("call ").partition(" ")
         if called not in known:

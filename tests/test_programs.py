@@ -1,3 +1,4 @@
+import itertools
 import unittest
 
 from selfpower import programs
@@ -174,6 +175,18 @@ class Equality(Case):
                 self.assertIs(users[0] == users[1], one == other)
                 self.assertIs(user_of(users[0]) == user_of(users[1]), one == other)
         self.assertEqual(user_of(Program("f", ["a"], [], ["a"])), user_of(Program("f", ["a"], [], ["a"])))
+
+    def test_each_call_counts(self):
+        # Both called programs have one name, so the texts of the users are all equal.
+        for inner in ([], [("call", ["a"], FLAT, ["a"])]):
+            called = [Program("f", ["a"], inner, [out]) for out in ("a", 1)]
+            users = [Program("user", ["x"], [("call", ["x"], program, ["x"]) for program in row], ["x"])
+                     for row in itertools.product(called, repeat=3)]
+            for one, first in enumerate(users):
+                for other, second in enumerate(users):
+                    self.assertEqual(first.text(), second.text())
+                    self.assertIs(first == second, one == other)
+                    self.assertIs(user_of(first) == user_of(second), one == other)
 
     def test_the_order_of_equal_names_counts(self):
         one, other = [Program("f", ["a"], [], [out]) for out in ("a", 1)]
