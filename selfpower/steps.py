@@ -51,6 +51,20 @@ def names_set(steps):
     return sorted(found)
 
 
+def names_read(steps):
+    """The ascending list of the names in the terms of steps without tests, and of those within them."""
+    found = {}
+    for step in spread(steps):
+        if step[0] == SET:
+            for name in step[2].names():
+                found[name] = True
+        if step[0] == CALL:
+            for term in step[3]:
+                for name in term.names():
+                    found[name] = True
+    return sorted(found)
+
+
 def terms_text(terms):
     """The text of some terms."""
     return BETWEEN_TERMS.join([term.text() for term in terms])

@@ -42,3 +42,8 @@ def number_text(number):
         pieces.append(str(low).zfill(WRITTEN_AT_ONCE))
     pieces.append(str(number))
     return "".join(pieces[::-1])
+
+
+def listed(values):
+    """The text of several values, with commas between."""
+    return ", ".join([str(value) for value in values])

@@ -3,11 +3,21 @@
 import inspect
 import unittest
 
+from selfpower.equations import Equation
+from selfpower.theories import Theory
 from tests.oracle import NO_NUMBERS
 
 # What "any value" means in the document, without the strings that are names.
 NO_TERMS = [value for value in NO_NUMBERS if value != "x"] + [
     "where", "X", "x1", "x y", " x", "x\n", "abcdefghi", "(x + 1)", ["x"], ("x",), (1, 2), [1]]
+
+# A theory without sizes, and one with the sizes 3 and 7.
+NONE = Theory(7, [Equation(0, 1)])
+ODD = Theory(7, [Equation.read("where((x + x), 0, x, 0) = 0")])
+
+# For 4 names, the first has 5858 points, which is the most that a theory can have, and the second 6347.
+NEAR = Theory(25, [Equation.read("where(65, 0, x, 0) = 0")])
+OVER = Theory(25, [Equation.read("where(26, 0, x, 0) = 0"), Equation.read("where(5, 0, (x ** 5), x) = x")])
 
 NO_NAMES = NO_TERMS + [0, 1, -1, 7, 10 ** 30]
 

@@ -72,6 +72,11 @@ def methods():
             for node in part.body if isinstance(node, ast.FunctionDef)]
 
 
+def class_values():
+    return {node.targets[0].id for _, tree in trees() for part in ast.walk(tree) if isinstance(part, ast.ClassDef)
+            for node in part.body if isinstance(node, ast.Assign)}
+
+
 def stored_attributes():
     return {node.attr for _, tree in trees() for node in ast.walk(tree)
             if isinstance(node, ast.Attribute) and isinstance(node.ctx, ast.Store)}
@@ -208,7 +213,7 @@ class Names(unittest.TestCase):
                     self.assertEqual(bound_names(node) & set(found), set(), (name, node.name))
 
     def test_attributes_are_assigned_or_methods(self):
-        known = METHODS | stored_attributes() | {node.name for _, node in methods()} | {"__class__", "__name__"}
+        known = METHODS | stored_attributes() | {node.name for _, node in methods()} | {"__class__", "__name__"} | class_values()
         for name, tree in trees():
             for node in ast.walk(tree):
                 if isinstance(node, ast.Attribute):
@@ -234,6 +239,11 @@ class Names(unittest.TestCase):
     def test_names_of_methods_and_attributes(self):
         plain = {node.name for _, node in methods() if not node.name.startswith("__")}
         self.assertEqual(plain & stored_attributes(), set())
+
+    def test_names_of_class_values(self):
+        names = {node.name for _, node in methods()} | {part.name for _, tree in trees() for part in ast.walk(tree)
+                                                        if isinstance(part, ast.ClassDef)}
+        self.assertEqual(class_values() & (names | stored_attributes()), set())
 
     def test_methods_with_two_underscores_are_simple(self):
         for made, node in methods():
