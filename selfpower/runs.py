@@ -12,11 +12,11 @@ LEAVE = "leave"
 
 def started(program, lanes):
     """The run of a program on lanes, ahead of its first step."""
-    mappings = {}
+    routines = {}
     scope = []
     for _, _, columns in lanes:
         scope.append({name: columns[place] for place, name in enumerate(program.inputs())})
-    return Run(program, lanes, [scope], prepared(program.steps(), mappings)[::-1], mappings)
+    return Run(program, lanes, [scope], prepared(program.steps(), routines)[::-1], routines)
 
 
 class Run:
@@ -27,18 +27,18 @@ class Run:
     the last one to the next one.
     """
 
-    def __init__(self, program, lanes, scopes, waiting, mappings):
+    def __init__(self, program, lanes, scopes, waiting, routines):
         self._program = program
         self._lanes = lanes
         self._scopes = scopes
         self._waiting = waiting
-        self._mappings = mappings
+        self._routines = routines
         self._asked = None
 
     def forked(self):
         """A run of its own that is as far as this one and waits for the same answer."""
         scopes = [[dict(columns) for columns in scope] for scope in self._scopes]
-        fork = Run(self._program, self._lanes, scopes, list(self._waiting), self._mappings)
+        fork = Run(self._program, self._lanes, scopes, list(self._waiting), self._routines)
         fork._asked = self._asked
         return fork
 
@@ -61,7 +61,7 @@ class Run:
     def flags(self):
         """The list that tells for each row whether the test that is asked holds there."""
         _, one, other, _, _ = self._asked
-        return [row[0] == row[1] for row in self._rows([one, other])]
+        return [row[0] == row[1] for row in self._computed([one, other])]
 
     def take(self, held):
         """Goes on to the first steps of the test that is asked if it held, otherwise to the others."""
@@ -71,9 +71,9 @@ class Run:
 
     def outputs(self):
         """The list of the tuples of the outputs for all rows, when the run is at its end."""
-        return self._rows(self._program.outputs())
+        return self._computed(self._program.outputs())
 
-    def _rows(self, terms):
+    def _computed(self, terms):
         """The list of the tuples of the values of terms for all rows."""
         found = []
         for place, lane in enumerate(self._lanes):
@@ -91,7 +91,7 @@ class Run:
             scope.append({name: found[at] for at, name in enumerate(program.inputs())})
         self._scopes.append(scope)
         self._waiting.append((LEAVE, names, program.outputs()))
-        self._waiting.extend(prepared(program.steps(), self._mappings)[::-1])
+        self._waiting.extend(prepared(program.steps(), self._routines)[::-1])
 
     def _leave(self, step):
         """Ends a called program: the names of the step that called it get its outputs."""

@@ -6,7 +6,9 @@ from selfpower import mappings
 from selfpower.errors import InvalidElement, InvalidNumber
 from selfpower.fields import Field
 from selfpower.programs import Program
+from selfpower.tables import tables_of
 from selfpower.terms import Term
+from selfpower.theories import Theory
 from selfpower.worlds import World
 from tests import oracle, run_oracle, term_oracle
 from tests.checks import Case
@@ -345,14 +347,16 @@ class Nested(Case):
     def test_calls_of_calls(self):
         program = Program("p", ["x"], [("set", "x", X + 1)], ["x"])
         tested = Program("t", ["x"], [("test", "x", 0, [("set", "x", 2)], [("set", "x", X + 1)])], ["x"])
-        for _ in range(60):
+        for _ in range(300):
             # Each program calls the one ahead of it twice.
             program = Program("p", ["x"], [("call", ["x"], program, ["x"]), ("call", ["x"], program, ["x"])], ["x"])
             tested = Program("t", ["x"], [("call", ["x"], tested, [X + 1])], ["x"])
-        self.assertEqual(World(61, 64).run(program, (5, 2)), (((5 + 2 ** 60) % 61, 2),))
-        self.assertEqual(World(61).trace(tested, (1,)), ((True,), ((2,),)))
-        self.assertEqual(World(61, 59).trace(tested, (1, 58)), ((True,), ((2, 2),)))
-        self.assertEqual(World(61, 59).trace(tested, (1, 57)), ((False,), ((1, 0),)))
+        self.assertEqual(World(61, 64).run(program, (5, 2)), (((5 + 2 ** 300) % 61, 2),))
+        self.assertEqual([table.entries() for table in tables_of(Theory(3), program)], [[0, 1, 1, 2, 0]])
+        # 300 is added, and 1 once more, unless it is 0 then in all fields.
+        self.assertEqual(World(61, 59).trace(tested, (1, 1)), ((False,), ((58, 7),)))
+        self.assertEqual(World(61, 59).trace(tested, (5, 54)), ((True,), ((2, 2),)))
+        self.assertEqual(World(61, 59).trace(tested, (5, 53)), ((False,), ((1, 0),)))
 
 
 class Refused(Case):
