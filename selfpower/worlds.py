@@ -92,7 +92,8 @@ class World:
             held = all(run.flags())
             run.take(held)
             answers.append(held)
-        return tuple(answers), tuple([tuple(column) for column in zip(*run.outputs())])
+        rows = run.outputs()
+        return tuple(answers), tuple([tuple(column) for column in zip(*rows)])
 
     def obeys(self, theory):
         """Whether it is a world of a theory."""

@@ -82,6 +82,30 @@ def stored_attributes():
             if isinstance(node, ast.Attribute) and isinstance(node.ctx, ast.Store)}
 
 
+def is_plain(node, properties):
+    """Whether what is written there may stand behind a star of a call, and beside two stars."""
+    if isinstance(node, ast.Attribute):
+        return isinstance(node.value, ast.Name) and node.attr not in properties
+    if isinstance(node, (ast.List, ast.Tuple)):
+        return all(is_plain(part, properties) for part in node.elts)
+    if isinstance(node, ast.Dict):
+        return all(is_plain(part, properties) for part in node.keys + node.values)
+    return isinstance(node, (ast.Name, ast.Constant))
+
+
+def wrong_stars(tree, properties):
+    """The texts of what stands wrongly behind a star of a call, or beside two stars."""
+    found = []
+    for node in ast.walk(tree):
+        if isinstance(node, ast.Call):
+            starred = [part.value for part in node.args if isinstance(part, ast.Starred)]
+            if any(part.arg is None for part in node.keywords):
+                starred += [part for part in node.args if not isinstance(part, ast.Starred)]
+                starred += [part.value for part in node.keywords]
+            found += [ast.unparse(part) for part in starred if not is_plain(part, properties)]
+    return found
+
+
 def trees():
     return [(path.name, ast.parse(path.read_text())) for path in FILES]
 
@@ -161,6 +185,28 @@ class Trees(unittest.TestCase):
             for node in ast.walk(tree):
                 if isinstance(node, ast.BinOp) and isinstance(node.op, ast.Pow):
                     self.assertIsInstance(node.right, ast.Constant, name)
+
+    def test_stars_of_calls(self):
+        properties = {node.name for _, node in methods() if decorators(node) == ["property"]}
+        for name, tree in trees():
+            self.assertEqual(wrong_stars(tree, properties), [], name)
+
+    def test_builtins_with_stars(self):
+        for name, tree in trees():
+            for node in ast.walk(tree):
+                if isinstance(node, ast.Call) and isinstance(node.func, ast.Name) and hasattr(builtins, node.func.id):
+                    if any(isinstance(part, ast.Starred) for part in node.args):
+                        self.assertIn(node.func.id, ("zip", "max", "min"), name)
+
+    def test_wrong_stars_are_found(self):
+        for text, expected in (
+                ("zip(*run.outputs())", ["run.outputs()"]), ("f(*g(x))", ["g(x)"]), ("max(*g())", ["g()"]),
+                ("min(1, *x.rows())", ["x.rows()"]), ("box.put(*f(), 1)", ["f()"]), ("f(*xs[0])", ["xs[0]"]),
+                ("f(*a + b)", ["a + b"]), ("f(*[g(x)])", ["[g(x)]"]), ("f(*a.b.c)", ["a.b.c"]), ("f(*box.sizes)", ["box.sizes"]),
+                ("f(*[x for x in xs])", ["[x for x in xs]"]), ("f(g(), **d)", ["g()"]), ("f(**g())", ["g()"]),
+                ("f(g(), *xs)", []), ("zip(*rows)", []), ("f(*box.rows, *(1, x), n, k=g())", []), ("f(1, x, **d)", []),
+                ("f(*[1, (x, y.z)], **{'a': x})", []), ("[*f(x), 1]", [])):
+            self.assertEqual(wrong_stars(ast.parse(text), {"sizes"}), expected, text)
 
     def test_no_augmented_assignments(self):
         # Classes of the document have signs in place, and then these need much care.
