@@ -88,51 +88,117 @@ def do_steps(steps, field, columns, many):
     """Does prepared steps without tests in a field, for so many rows of elements.
 
     The columns are a dict from each name to the list of its elements in these rows; the steps change this dict. The
-    steps of called programs are done in the same loop, as programs may call each other in any depth.
+    steps of called programs and of repeats are done in the same loop, as they may stand in each other in any depth.
     """
-    waiting = steps[::-1]
+    rounds = [Round(steps, columns, many)]
     calls = []
-    while waiting or calls:
-        if not waiting:
-            call, waiting, outer, outer_many = calls.pop()
-            call.end(call.mapping.images_in(field, columns, many), outer)
-            columns, many = outer, outer_many
-            continue
-        step = waiting.pop()
-        if step[0] == SET:
-            columns[step[1]] = step[2].column(field, columns, many)
-            continue
-        call = Call(step, field, columns, many)
-        if step[0] == REPEAT:
-            call.end(call.mapping.images_of(field, call.fresh), columns)
-        elif not call.fresh:
-            call.end([], columns)
+    while rounds[-1].waiting or calls:
+        last = rounds[-1]
+        if not last.waiting:
+            rounds.pop()
+            calls[-1].take(last)
         else:
-            calls.append((call, waiting, columns, many))
-            waiting, columns = call.mapping.begun(call.fresh)
-            many = len(call.fresh)
+            step = last.waiting.pop()
+            if step[0] == SET:
+                last.columns[step[1]] = step[2].column(field, last.columns, last.height)
+                continue
+            calls.append(Call(step, field, last))
+        # The last call begins, or goes on behind one of its rounds.
+        following = calls[-1].following()
+        if following is None:
+            calls.pop().end()
+        else:
+            rounds.append(following)
+
+
+class Round:
+    """Prepared steps that are being done once, for so many rows. They wait from the last one to the next one."""
+
+    def __init__(self, steps, columns, many):
+        self.waiting = steps[::-1]
+        self.columns = columns
+        self.height = many
 
 
 class Call:
-    """A prepared call or repeat that is being done: for which rows, and what is known of their images."""
+    """A prepared call or repeat that is being done, for the rows of a round around it."""
 
-    def __init__(self, step, field, columns, many):
-        _, changed, mapping, terms = step
-        self._changed = changed
+    def __init__(self, step, field, around):
+        _, self._changed, self._mapping, terms = step
         self._field = field
-        self._rows = rows_of([term.column(field, columns, many) for term in terms], many)
-        self._found = mapping.known(field, self._rows)
-        self.mapping = mapping
-        self.fresh = list({row: True for row in self._rows if row not in self._found})
+        self._around = around
+        self._rows = rows_of([term.column(field, around.columns, around.height) for term in terms], around.height)
+        self._found = self._mapping.known(field, self._rows)
+        self._fresh = list({row: True for row in self._rows if row not in self._found})
+        self._work = self._mapping.work(self._fresh)
 
-    def end(self, images, columns):
-        """Puts the images into the columns of the names that are set, with a list of those of the fresh rows."""
-        fresh = {row: image for row, image in zip(self.fresh, images)}
-        self.mapping.keep(self._field, fresh)
-        for row in fresh:
-            self._found[row] = fresh[row]
+    def following(self):
+        """The next round of steps; None if the images of all rows are found."""
+        while self._fresh and not self._work.pending():
+            images = self._work.images()
+            for row in self._fresh:
+                if row in images:
+                    self._found[row] = images[row]
+            self._mapping.keep(self._field, images)
+            self._fresh = [row for row in self._fresh if row not in images]
+            self._work = self._mapping.work(self._fresh)
+        if not self._fresh:
+            return None
+        return self._mapping.begun(self._work.pending())
+
+    def take(self, done):
+        """Takes a round of steps that is done."""
+        self._work.take(self._mapping.images_in(self._field, done))
+
+    def end(self):
+        """Puts the images into the columns of the names that are set."""
         for place, name in enumerate(self._changed):
-            columns[name] = [self._found[given][place] for given in self._rows]
+            self._around.columns[name] = [self._found[given][place] for given in self._rows]
+
+
+class Turns:
+    """Steps that are done for different rows so many times, one after the other."""
+
+    def __init__(self, rows, times):
+        self._starts = rows
+        self._images = rows
+        self._left = times
+
+    def pending(self):
+        """The list of the rows for which the steps are done next; none at the end."""
+        return self._images if self._left > 0 else []
+
+    def take(self, images):
+        """Takes the images of these rows."""
+        self._images = images
+        self._left = self._left - 1
+
+    def images(self):
+        """A dict from the rows to their images, at the end."""
+        return {row: image for row, image in zip(self._starts, self._images)}
+
+
+class Leaps:
+    """Steps that are done for different rows so many times, where all rows that they lead to are looked for first."""
+
+    def __init__(self, rows, times):
+        self._ahead = {}
+        self._rows = rows
+        self._times = times
+
+    def pending(self):
+        """The list of the rows for which the steps are done next; none at the end."""
+        return self._rows
+
+    def take(self, images):
+        """Takes the images of these rows."""
+        for row, image in zip(self._rows, images):
+            self._ahead[row] = image
+        self._rows = list({following: True for following in images if following not in self._ahead})
+
+    def images(self):
+        """A dict from the rows, and all rows that they lead to, to their images, at the end."""
+        return ends_of(self._ahead, self._times)
 
 
 class Mapping:
@@ -164,15 +230,19 @@ class Routine(Mapping):
         self._routines = routines
         self._steps = None
 
+    def work(self, rows):
+        """The work of finding the images of rows."""
+        return Turns(rows, 1)
+
     def begun(self, rows):
-        """The pair of the steps, from the last one to the first one, and of the columns for rows of inputs."""
+        """The round of the steps for rows of inputs."""
         if self._steps is None:
             self._steps = prepared(self._program.steps(), self._routines)
-        return self._steps[::-1], named_columns(self._program.inputs(), rows)
+        return Round(self._steps, named_columns(self._program.inputs(), rows), len(rows))
 
-    def images_in(self, field, columns, many):
-        """The list of the images in columns in which the steps are done, for so many rows."""
-        return rows_of([term.column(field, columns, many) for term in self._program.outputs()], many)
+    def images_in(self, field, done):
+        """The list of the images at the end of a round."""
+        return rows_of([term.column(field, done.columns, done.height) for term in self._program.outputs()], done.height)
 
 
 class Loop(Mapping):
@@ -184,41 +254,16 @@ class Loop(Mapping):
         self._steps = steps
         self._times = times
 
-    def images_of(self, field, rows):
-        """The list of the images of different rows."""
-        found = {}
-        waiting = rows
-        while waiting:
-            images = self._some_images(field, waiting[:ROWS_AT_ONCE])
-            for row in waiting:
-                if row in images:
-                    found[row] = images[row]
-            waiting = [other for other in waiting if other not in images]
-            self.keep(field, images)
-        return [found[start] for start in rows]
-
-    def _some_images(self, field, rows):
-        """A dict with the images of different rows, and perhaps of further ones."""
+    def work(self, rows):
+        """The work of finding the images of rows, perhaps of some of them only."""
         if self._times > FEW_TIMES:
-            return ends_of(self._ahead(field, rows), self._times)
-        images = rows
-        for _ in range(self._times):
-            images = self._done_once(field, images)
-        return {row: image for row, image in zip(rows, images)}
+            return Leaps(rows[:ROWS_AT_ONCE], self._times)
+        return Turns(rows, self._times)
 
-    def _ahead(self, field, rows):
-        """A dict from each row to which the steps, done again and again, lead these rows, to the next one."""
-        ahead = {}
-        waiting = rows
-        while waiting:
-            images = self._done_once(field, waiting)
-            for row, image in zip(waiting, images):
-                ahead[row] = image
-            waiting = list({following: True for following in images if following not in ahead})
-        return ahead
+    def begun(self, rows):
+        """The round of the steps, done once, for rows."""
+        return Round(self._steps, named_columns(self._names, rows), len(rows))
 
-    def _done_once(self, field, rows):
-        """The list of what the steps, done once, make of rows."""
-        columns = named_columns(self._names, rows)
-        do_steps(self._steps, field, columns, len(rows))
-        return rows_of([columns[name] for name in self._names], len(rows))
+    def images_in(self, field, done):
+        """The list of what the steps of a round, in a field, made of its rows."""
+        return rows_of([done.columns[name] for name in self._names], done.height)
