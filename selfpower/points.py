@@ -43,13 +43,18 @@ def points_of(sizes, many):
     return [(size, row) for size in sorted(sizes) for row in point_rows(Field(size), many)]
 
 
+def rows_behind(start, field, many):
+    """The ascending list of the rows that begin with a tuple and have so many elements of a field behind it."""
+    rows = [start]
+    for _ in range(many):
+        rows = [row + (item,) for row in rows for item in range(field.size)]
+    return rows
+
+
 def point_rows(field, many):
     """The ascending list of the rows of the points with the size of a field."""
     turned = [field.turned(item) for item in range(field.size)]
-    rows = [()]
-    for _ in range(many):
-        rows = [row + (item,) for row in rows for item in range(field.size)]
-    return [row for row in rows if is_least(row, turned, field.degree)]
+    return [row for row in rows_behind((), field, many) if is_least(row, turned, field.degree)]
 
 
 def is_least(row, turned, degree):
@@ -72,17 +77,25 @@ def field_of_row(size, row):
     return field
 
 
+def leadings(field, small):
+    """The list of the embedding of a small field into a field in which it lies, behind 0, 1, .. turnings."""
+    leading = field.embedding(small.size)
+    found = []
+    for _ in range(small.degree):
+        found.append(leading)
+        leading = [leading[small.turned(item)] for item in range(small.size)]
+    return found
+
+
 def placed(field, small, row):
     """The row of the point of a row, and where each element of its field is led, as this row is led to the other.
 
     The first field is the one of the row, the small one that of the size that the row makes.
     """
-    leading = field.embedding(small.size)
     found = []
-    for _ in range(small.degree):
+    for leading in leadings(field, small):
         sources = {place: item for item, place in enumerate(leading)}
         found.append((tuple([sources[item] for item in row]), leading))
-        leading = [leading[small.turned(item)] for item in range(small.size)]
     # The rows found all differ, as the row makes the small size: so the least pair has the least row.
     return min(found)
 

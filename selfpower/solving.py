@@ -2,7 +2,7 @@
 
 from selfpower.errors import InvalidElement, InvalidNumber, UnknownName
 from selfpower.grids import Grid, agreements, check_names, check_variables, columns_of, names_in
-from selfpower.points import check_count
+from selfpower.points import check_count, rows_behind
 from selfpower.tables import Table
 
 
@@ -74,9 +74,7 @@ def solutions(theory, facts, given, sought, size, row):
             raise InvalidElement(item)
     if len(row) != len(given):
         raise InvalidNumber(len(row))
-    rows = [tuple(row)]
-    for _ in sought:
-        rows = [start + (item,) for start in rows for item in range(field.size)]
+    rows = rows_behind(tuple(row), field, len(sought))
     names = list(given) + list(sought)
     columns = columns_of(rows, len(names))
     flags = agreements(facts, field, {name: columns[place] for place, name in enumerate(names)}, len(rows))

@@ -49,6 +49,9 @@ AT_ONCE = {"zip", "enumerate", "reversed"}
 
 TAKERS = {"list", "tuple", "dict", "sorted", "sum", "any", "all", "min", "max", "enumerate", "zip"}
 
+# Where examples were run, `_` is among them, too.
+ALL_BUILTINS = set(dir(builtins)) - {"_"}
+
 FILES = sorted(PACKAGE.rglob("*.py"))
 
 
@@ -194,7 +197,7 @@ class Trees(unittest.TestCase):
     def test_builtins_with_stars(self):
         for name, tree in trees():
             for node in ast.walk(tree):
-                if isinstance(node, ast.Call) and isinstance(node.func, ast.Name) and hasattr(builtins, node.func.id):
+                if isinstance(node, ast.Call) and isinstance(node.func, ast.Name) and node.func.id in ALL_BUILTINS:
                     if any(isinstance(part, ast.Starred) for part in node.args):
                         self.assertIn(node.func.id, ("zip", "max", "min"), name)
 
@@ -233,14 +236,14 @@ class Names(unittest.TestCase):
     def test_builtins(self):
         for name, tree in trees():
             for node in ast.walk(tree):
-                if isinstance(node, ast.Name) and hasattr(builtins, node.id):
+                if isinstance(node, ast.Name) and node.id in ALL_BUILTINS:
                     self.assertIn(node.id, BUILTINS | ERRORS, name)
                     self.assertIsInstance(node.ctx, ast.Load)
                 if isinstance(node, ast.FunctionDef) and not is_part_of_class(tree, node):
-                    self.assertFalse(hasattr(builtins, node.name), node.name)
+                    self.assertFalse(node.name in ALL_BUILTINS, node.name)
                 if isinstance(node, ast.FunctionDef):
                     for bound in bound_names(node):
-                        self.assertFalse(hasattr(builtins, bound), (name, node.name, bound))
+                        self.assertFalse(bound in ALL_BUILTINS, (name, node.name, bound))
 
     def test_names_of_a_file_are_bound_once(self):
         for name, tree in trees():
