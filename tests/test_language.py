@@ -262,7 +262,7 @@ class Names(unittest.TestCase):
                     self.assertEqual(bound_names(node) & set(found), set(), (name, node.name))
 
     def test_attributes_are_assigned_or_methods(self):
-        known = METHODS | stored_attributes() | {node.name for _, node in methods()} | {"__class__", "__name__"} | class_values()
+        known = METHODS | stored_attributes() | {node.name for _, node in methods()} | {"__class__", "__name__", "setter"} | class_values()
         for name, tree in trees():
             for node in ast.walk(tree):
                 if isinstance(node, ast.Attribute):
