@@ -38,7 +38,7 @@ class Rows(unittest.TestCase):
         if kind in ("undo", "redo"):
             return kind, told(getattr(book, kind)), expected(getattr(plain, kind))
         if kind == "same":
-            names = plain.names("program") + NAMES
+            names = plain.names("program") * 5 + NAMES
             pair = [chance.choice(ANY) if chance.random() < 0.05 else chance.choice(names) for _ in range(2)]
             found = told(book.same, *pair)
             return kind, found if isinstance(found, tuple) else found.KIND, expected(plain.same, *pair)
@@ -51,7 +51,7 @@ class Rows(unittest.TestCase):
         return kind, told(getattr(book, kind), name), wanted[0] if wanted else ("UnknownName", name)
 
     def test_drawn_calls(self):
-        counts = {}
+        counts, kinds = {}, []
         for seed in range(70):
             draws = Chance(seed)
             books = [(Book(), PlainBook())]
@@ -61,6 +61,7 @@ class Rows(unittest.TestCase):
                 self.assertEqual(found, wanted, (seed, at, kind))
                 self.assertEqual(repr(found), repr(wanted), (seed, at, kind))
                 counts[kind, isinstance(found, tuple)] = counts.get((kind, isinstance(found, tuple)), 0) + 1
+                kinds.append(found)
                 for book, plain in books:
                     self.compare(book, plain)
                 if draws.chance.random() < 0.05 and len(books) < 3:
@@ -68,6 +69,7 @@ class Rows(unittest.TestCase):
                     self.assertEqual(books[-1][0], book)
         for kind in ("do", "run", "undo", "redo", "same", "capacity", "assigned", "program", "fact"):
             self.assertGreater(min(counts[kind, True], counts[kind, False]), 10, kind)
+        self.assertGreater(min(kinds.count("same"), kinds.count("parted")), 10)
 
     def test_questions_and_pages_between_them(self):
         asked = 0

@@ -78,11 +78,11 @@ def plain_answer(plain, line):
 def line_by(chance, plain):
     """A line by chance, mostly a right one."""
     name, equation = chance.choice(NAMES), chance.choice(EQUATIONS).text()
-    others = plain.names() + NAMES
+    others, programs = plain.names() + NAMES, plain.names("program") * 5 + NAMES
     line = chance.choice([
         f"power {chance.choice([2, 3, 4, 7, 8, 22, 61, 1, 65, 0])}", f"axiom {equation}", f"forgo {chance.randrange(3)}", f"fact {name} {equation}",
-        f"drop {chance.choice(others)}", "undo", "undo", "redo", "redo", "sizes", "names", f"follows {equation}", f"same {chance.choice(others)} {chance.choice(others)}",
-        f"same {chance.choice(others)} {chance.choice(others)}"])
+        f"drop {chance.choice(others)}", "undo", "undo", "redo", "redo", "sizes", "names", f"follows {equation}", f"same {chance.choice(programs)} {chance.choice(programs)}",
+        f"same {chance.choice(programs)} {chance.choice(programs)}", f"same {chance.choice(programs)} {chance.choice(programs)}"])
     if chance.random() < 0.15:
         at = chance.randrange(len(line) + 1)
         line = chance.choice([line[:at] + " " + line[at:], line[:at] + line[at + 1:], line + " ", " " + line, line[:at] + chance.choice("x01(=\n") + line[at:],
@@ -135,13 +135,13 @@ class Desks78(Case):
 
     def test_drawn_lines(self):
         counts = {}
-        for seed in range(60):
+        for seed in range(120):
             chance = random.Random(seed)
             draws, book, plain = Chance(seed), Book(), PlainBook()
             desk, log = Desk(book), []
             for _ in range(70):
-                if chance.random() < 0.15:
-                    command = draws.command(plain)
+                if chance.random() < 0.3:
+                    command = ("program", draws.program(plain)) if chance.random() < 0.7 else draws.command(plain)
                     told(book.do, command)
                     expected(plain.do, command)
                 line = line_by(chance, plain)
