@@ -1,8 +1,11 @@
 """Programs that call each other in long rows, with repeats and tests on the way."""
 
 import unittest
+from unittest import mock
 
+from selfpower import mappings
 from selfpower.comparing import compare
+from selfpower.points import count_points
 from selfpower.programs import Program
 from selfpower.tables import Table, tables_of
 from selfpower.terms import Term
@@ -88,6 +91,29 @@ class Chains(unittest.TestCase):
             self.assertEqual([compare(theory, program, plain).KIND, compare(theory, plain, program).KIND], ["same", "same"])
             other = Program("other", ["x", "y"], [], [X + Y * (often % 30) + Y, "y"])
             self.assertEqual(compare(theory, program, other).KIND, "parted")
+
+
+class ManyRows(unittest.TestCase):
+    """More rows at once than are looked for at once."""
+
+    def test_tables_of_repeats_point_by_point(self):
+        steps = [("set", "x", X * Y + 1), ("set", "y", X + Y)]
+        for theory in (Theory(64), Theory(31), Theory(25)):
+            for times in (3, 16, 17, 10 ** 30):
+                inner = Program("inner", ["x", "y"], [("repeat", times, steps)], ["x", "y"])
+                program = Program("p", ["x", "y"], [("repeat", times, [("call", ["x", "y"], inner, [Y, "x"])])], ["x", "y"])
+                tables = tables_of(theory, program)
+                self.assertGreaterEqual(max(count_points(size, 2) for size in theory.sizes), 300)
+                for size, row in theory.points(2)[::7]:
+                    found = World(size).run(program, *[(item,) for item in row])
+                    self.assertEqual([table[(size, row)] for table in tables], [value for value, in found])
+
+    def test_the_same_however_many_are_looked_for_at_once(self):
+        program = Program("p", ["x", "y"], [("repeat", 10 ** 29, [("set", "x", X * Y + 1), ("set", "y", X + Y)])], ["x", "y"])
+        expected = tables_of(Theory(16), program)
+        for name, value in (("ROWS_AT_ONCE", 1), ("ROWS_AT_ONCE", 7), ("ROWS_AT_ONCE", 10 ** 6), ("MOST_KEPT", 0), ("MOST_KEPT", 50)):
+            with mock.patch.object(mappings, name, value):
+                self.assertEqual(tables_of(Theory(16), program), expected)
 
 
 def flat_twin(often):

@@ -45,6 +45,9 @@ METHODS = set("""append clear copy count endswith extend find get index insert i
     items join keys ljust lower lstrip partition pop remove replace reverse rfind rjust rpartition rsplit rstrip setdefault
     split splitlines startswith strip update upper values zfill bit_length add discard removeprefix removesuffix""".split())
 
+# Of those, the ones that change their object.
+CHANGING = set("append clear extend insert pop remove reverse setdefault update add discard".split())
+
 AT_ONCE = {"zip", "enumerate", "reversed"}
 
 TAKERS = {"list", "tuple", "dict", "sorted", "sum", "any", "all", "min", "max", "enumerate", "zip"}
@@ -157,6 +160,36 @@ class Trees(unittest.TestCase):
                             self.assertIn(alias.name, LIBRARY[node.module], name)
                         else:
                             self.assertRegex(node.module, r"^selfpower\.[a-z]+$")
+
+    def test_imports_name_the_files_that_define_the_names_and_are_used(self):
+        made = {name: {node.name for node in tree.body if isinstance(node, (ast.FunctionDef, ast.ClassDef))} |
+                {node.targets[0].id for node in tree.body if isinstance(node, ast.Assign)} for name, tree in trees()}
+        for name, tree in trees():
+            used = {node.id for node in ast.walk(tree) if isinstance(node, ast.Name)}
+            for node in tree.body:
+                if isinstance(node, ast.ImportFrom) and node.module not in LIBRARY:
+                    for alias in node.names:
+                        self.assertIn(alias.name, made[node.module.split(".")[1] + ".py"], name)
+                        self.assertIn(alias.name, used, name)
+
+    def test_a_finally_only_assigns_plain_values(self):
+        for name, tree in trees():
+            for node in ast.walk(tree):
+                for row in getattr(node, "finalbody", []):
+                    self.assertIsInstance(row, ast.Assign, name)
+                    self.assertTrue(is_plain(row.value, set()), name)
+
+    def test_what_is_iterated_is_not_changed(self):
+        """No loop's row assigns an item of, or calls a changing method of, the very name or attribute that the loop goes over."""
+        for name, tree in trees():
+            for node in ast.walk(tree):
+                if isinstance(node, ast.For):
+                    over = {ast.unparse(part) for part in ast.walk(node.iter) if isinstance(part, (ast.Name, ast.Attribute))}
+                    for part in [inner for row in node.body for inner in ast.walk(row)]:
+                        if isinstance(part, ast.Subscript) and isinstance(part.ctx, (ast.Store, ast.Del)):
+                            self.assertNotIn(ast.unparse(part.value), over, name)
+                        if isinstance(part, ast.Call) and isinstance(part.func, ast.Attribute) and part.func.attr in CHANGING:
+                            self.assertNotIn(ast.unparse(part.func.value), over, name)
 
     def test_module_level(self):
         for name, tree in trees():

@@ -51,7 +51,7 @@ class Middles(Case):
         found = middle(theory, facts, goal)
         if isinstance(found, Broken):
             self.assertFalse(follows(theory, facts, goal))
-            self.assertTrue(found.holds(theory, facts, goal))
+            self.assertIs(True, found.holds(theory, facts, goal))
             return "Broken"
         self.assertTrue(follows(theory, facts, goal))
         known = sorted({name for fact in facts for name in fact.names()})
@@ -86,8 +86,8 @@ class Middles(Case):
         self.assertTrue(size in theory.sizes and other in theory.sizes)
         given, wanted = dict(zip(known, row)), dict(zip(goal.names(), items))
         self.assertEqual([len(row), len(items)], [len(known), len(goal.names())])
-        self.assertTrue(all(fact.holds(theory.field(size), given) for fact in facts))
-        self.assertFalse(goal.holds(theory.field(other), wanted))
+        self.assertIs(True, all(fact.holds(theory.field(size), given) for fact in facts))
+        self.assertIs(False, goal.holds(theory.field(other), wanted))
         self.assertEqual(tell_oracle.point(size, [given[name] for name in shared]),
                          tell_oracle.point(other, [wanted[name] for name in shared]))
 
@@ -137,7 +137,7 @@ class Middles61(Middles):
                                     (Theory(7), [Equation(X, Y)], Equation(Y, Z)), (APART, [Equation(X ** 4, X)], Equation(X, 1))):
             found, expected = middle(theory, facts, goal), follows(theory, facts, goal)
             self.assertEqual([type(found), found.world, found.given()], [Broken, expected.world, expected.given()])
-            self.assertTrue(found.holds(theory, facts, goal))
+            self.assertIs(True, found.holds(theory, facts, goal))
 
     def test_made_by_callers(self):
         table = Table.of(FOUR, ["x", "y"], X + Y)
@@ -231,7 +231,7 @@ class NothingLeft(Case):
                 found = middle(theory, facts, goal)
                 if isinstance(found, Broken):
                     self.assertEqual(found.given(), {})
-                    self.assertTrue(found.holds(theory, facts, goal))
+                    self.assertIs(True, found.holds(theory, facts, goal))
                 else:
                     holding = [all(fact.holds(theory.field(size), {}) for fact in facts) for size, _ in theory.points(0)]
                     failing = [not goal.holds(theory.field(size), {}) for size, _ in theory.points(0)]

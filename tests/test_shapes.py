@@ -145,7 +145,7 @@ class Embeddings64(Case):
         """What embed returns is right; returns whether it is an Embedding, otherwise the kind."""
         first, second = Shape(one), Shape(other)
         found = embed(first, second)
-        self.assertTrue(found.holds(first, second), (one, other))
+        self.assertIs(True, found.holds(first, second), (one, other))
         if isinstance(found, Embedding):
             self.assertTrue(found)
             amounts = found.amounts()
@@ -249,71 +249,71 @@ class Judged65(Case):
     def test_amounts_bent_at_one_place(self):
         one, other = Shape([(2, 2), (4, 1), (3, 1)]), Shape([(4, 2), (8, 3), (27, 1), (16, 2)])
         right = [(2, 4, 1), (2, 8, 3), (2, 16, 1), (3, 27, 1), (4, 4, 1), (4, 16, 1)]
-        self.assertTrue(Embedding(right).holds(one, other))
-        self.assertTrue(Embedding(tuple(right)).holds(one, other))
-        self.assertTrue(embed(one, other).holds(one, other))
+        self.assertIs(True, Embedding(right).holds(one, other))
+        self.assertIs(True, Embedding(tuple(right)).holds(one, other))
+        self.assertIs(True, embed(one, other).holds(one, other))
         for place, (size, great, amount) in enumerate(right):
             rest = right[:place] + right[place + 1:]
             for bent in ((size, great, amount + 1), (size, great, amount - 1), (size, great, -amount), (size, great, amount + MOST),
                          (size, 64, amount), (5, great, amount), (9, great, amount), (8, great, amount), (size, 25, amount)):
-                self.assertFalse(Embedding(rest + [bent]).holds(one, other), bent)
-            self.assertFalse(Embedding(rest).holds(one, other))
-            self.assertFalse(Embedding(right + [(size, great, amount)]).holds(one, other))
-            self.assertFalse(Embedding(right + [(size, great, 0)]).holds(one, other))
+                self.assertIs(False, Embedding(rest + [bent]).holds(one, other), bent)
+            self.assertIs(False, Embedding(rest).holds(one, other))
+            self.assertIs(False, Embedding(right + [(size, great, amount)]).holds(one, other))
+            self.assertIs(False, Embedding(right + [(size, great, 0)]).holds(one, other))
             # One amount below 1 is wrong, also if the sum is right.
-            self.assertFalse(Embedding(rest + [(size, great, amount + 1), (size, great, -1)]).holds(one, other))
-        self.assertFalse(Embedding([]).holds(one, other))
-        self.assertFalse(Embedding(right).holds(other, one))
-        self.assertFalse(Embedding(right).holds(one + Shape([(9, 1)]), other))
-        self.assertFalse(Embedding(right).holds(one, other + Shape([(9, 1)])))
-        self.assertFalse(Embedding(right).holds(one + Shape([(3, 1)]), other))
+            self.assertIs(False, Embedding(rest + [(size, great, amount + 1), (size, great, -1)]).holds(one, other))
+        self.assertIs(False, Embedding([]).holds(one, other))
+        self.assertIs(False, Embedding(right).holds(other, one))
+        self.assertIs(False, Embedding(right).holds(one + Shape([(9, 1)]), other))
+        self.assertIs(False, Embedding(right).holds(one, other + Shape([(9, 1)])))
+        self.assertIs(False, Embedding(right).holds(one + Shape([(3, 1)]), other))
 
     def test_a_pair_twice(self):
         one, other = Shape([(2, 2), (4, 1)]), Shape([(4, 3), (8, 3)])
         twice = Embedding([(2, 8, 1), (4, 4, 2), (2, 8, 2), (4, 4, 1)])
         self.assertEqual([twice.holds(one, other), bool(twice), twice.amounts()],
                          [True, True, [(2, 8, 1), (2, 8, 2), (4, 4, 1), (4, 4, 2)]])
-        self.assertFalse(Embedding([(2, 8, 1), (4, 4, 2), (2, 8, 2), (4, 4, 2)]).holds(one, other))
-        self.assertFalse(Embedding([(2, 8, 3), (2, 8, 1), (4, 4, 3)]).holds(one, other))
+        self.assertIs(False, Embedding([(2, 8, 1), (4, 4, 2), (2, 8, 2), (4, 4, 2)]).holds(one, other))
+        self.assertIs(False, Embedding([(2, 8, 3), (2, 8, 1), (4, 4, 3)]).holds(one, other))
 
     def test_each_field_is_used(self):
         one, other = Shape([(2, 2), (4, 3)]), Shape([(16, 5)])
-        self.assertTrue(Embedding([(2, 16, 2), (4, 16, 3)]).holds(one, other))
-        self.assertFalse(Embedding([(2, 16, 1), (4, 16, 4)]).holds(one, other))
-        self.assertFalse(Embedding([(2, 16, 3), (4, 16, 2)]).holds(one, other))
-        self.assertFalse(Embedding([(2, 16, 5)]).holds(one, other))
-        self.assertTrue(Embedding([(2, 16, 3), (4, 16, 2)]).holds(Shape([(2, 2), (4, 2)]), other))
+        self.assertIs(True, Embedding([(2, 16, 2), (4, 16, 3)]).holds(one, other))
+        self.assertIs(False, Embedding([(2, 16, 1), (4, 16, 4)]).holds(one, other))
+        self.assertIs(False, Embedding([(2, 16, 3), (4, 16, 2)]).holds(one, other))
+        self.assertIs(False, Embedding([(2, 16, 5)]).holds(one, other))
+        self.assertIs(True, Embedding([(2, 16, 3), (4, 16, 2)]).holds(Shape([(2, 2), (4, 2)]), other))
 
     def test_sizes_that_do_not_lie_in_each_other(self):
         for small, great in ((4, 8), (9, 27), (8, 16), (8, 4), (4, 2), (2, 3), (16, 64)):
-            self.assertFalse(Embedding([(small, great, 1)]).holds(Shape([(small, 1)]), Shape([(great, 1)])))
+            self.assertIs(False, Embedding([(small, great, 1)]).holds(Shape([(small, 1)]), Shape([(great, 1)])))
         # Only one of the two pairs is wrong.
-        self.assertFalse(Embedding([(2, 4, 1), (4, 8, 1)]).holds(Shape([(2, 1), (4, 1)]), Shape([(4, 1), (8, 1)])))
-        self.assertTrue(Embedding([(2, 8, 1), (4, 4, 1)]).holds(Shape([(2, 1), (4, 1)]), Shape([(4, 1), (8, 1)])))
+        self.assertIs(False, Embedding([(2, 4, 1), (4, 8, 1)]).holds(Shape([(2, 1), (4, 1)]), Shape([(4, 1), (8, 1)])))
+        self.assertIs(True, Embedding([(2, 8, 1), (4, 4, 1)]).holds(Shape([(2, 1), (4, 1)]), Shape([(4, 1), (8, 1)])))
 
     def test_no_size_has_a_field_in_it(self):
         one, other = Shape([(4, 1), (3, 1)]), Shape([(8, 1), (16, 5), (9, 1), (5, 2)])
         self.assertEqual(embed(one, other).sizes, (5,))
         for sizes, flag in (((5,), True), ((8,), True), ([8], True), ((16,), False), ((9,), False), ((7,), False), ((2,), False), ((), False),
                             ((5, 8), False), ((8, 5), False), ((5, 5), False), ((4,), False), ((6,), False)):
-            self.assertEqual(Blocked("none", sizes).holds(one, other), flag, sizes)
+            self.assertIs(Blocked("none", sizes).holds(one, other), flag, sizes)
         for kind in ("few", "None", "", "no", "nones", "some"):
-            self.assertFalse(Blocked(kind, (5,)).holds(one, other))
+            self.assertIs(False, Blocked(kind, (5,)).holds(one, other))
 
     def test_too_few_fields(self):
         one, other = Shape([(2, 5), (4, 2), (8, 2), (3, 4)]), Shape([(4, 1), (8, 9), (64, 2), (9, 3), (27, 1)])
         expected = {(4, 8): False, (4,): False, (2,): False, (3,): False}
         for sizes, flag in expected.items():
-            self.assertEqual(Blocked("few", sizes).holds(one, other), flag)
+            self.assertIs(Blocked("few", sizes).holds(one, other), flag)
         one = one + Shape([(4, 2), (3, 1)])
         # 4 fields of 4 elements for 1 of 4 and 2 of 64; 5 of 3 elements for 4.
         for sizes, flag in (((4,), True), ([4], True), ((3,), True), ((3, 4), True), ((4, 3), False), ((3, 3), False), ((4, 4), False), ((), False),
                             ((4, 8), False), ((2, 4), False), ((4, 5), False), ((3, 4, 16), False), ((9,), False), ((3, 4, 4), False)):
-            self.assertEqual(Blocked("few", sizes).holds(one, other), flag, sizes)
+            self.assertIs(Blocked("few", sizes).holds(one, other), flag, sizes)
         for kind in ("none", "Few", "", "fews"):
-            self.assertFalse(Blocked(kind, (4,)).holds(one, other))
-        self.assertTrue(embed(one, other).holds(one, other))
-        self.assertFalse(embed(one, other).holds(other, one))
+            self.assertIs(False, Blocked(kind, (4,)).holds(one, other))
+        self.assertIs(True, embed(one, other).holds(one, other))
+        self.assertIs(False, embed(one, other).holds(other, one))
 
     def test_properties(self):
         blocked = Blocked(kind="few", sizes=(2, 4))
