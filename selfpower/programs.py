@@ -142,9 +142,11 @@ def all_rows(text, programs):
     own = []
     for program in programs:
         found = []
-        for row_text, calls in program.rows:
-            row = (row_text, tuple([found[call] for call in calls]))
-            found.append(places.setdefault(row, len(places)))
+        for row in program.rows:
+            row_text, calls = row
+            moved = tuple([found[call] for call in calls])
+            # In a long chain of calls no place changes: then the programs share their rows.
+            found.append(places.setdefault(row if moved == calls else (row_text, moved), len(places)))
         own.append(found[-1])
     return list(places) + [(text, tuple(own))]
 
